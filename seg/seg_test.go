@@ -43,7 +43,7 @@ func encoded(t *testing.T, entries ...api.Entry) []byte {
 // same: two logs, byte by byte.
 func same(a, b api.Log) bool { return a.Synced == b.Synced && bytes.Equal(a.Bytes, b.Bytes) }
 
-// smallest: so many bytes, of 8 each, that are entries.
+// smallest: the bytes of so many entries, of 8 each.
 func smallest(n int) []byte { return bytes.Repeat([]byte{5, 1, 0, 0, 0, 0, 0, 1}, n) }
 
 type badLog struct {
