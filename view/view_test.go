@@ -113,8 +113,11 @@ func TestOpen(t *testing.T) {
 		{"a marker alone", []api.Entry{commit(1, 0), abort(2, 0)}, 2},
 		{"the second one", []api.Entry{inTxn(1, 0, 0), commit(1, 0), data(1, 0, 1), inTxn(1, 0, 2), inTxn(1, 0, 3)}, 3},
 		{"Data without Txn behind the marker", []api.Entry{inTxn(1, 0, 0), abort(1, 0), data(1, 0, 1)}, 3},
-		{"nobody's Data with Txn, as any other", []api.Entry{data(0, 0, 0), inTxn(0, 0, 0), commit(1, 0)}, 1},
-		{"nobody's Commit, as any other", []api.Entry{data(0, 0, 0), inTxn(0, 0, 0), commit(0, 0)}, 3},
+		{"nobody's Data with Txn opens none", []api.Entry{inTxn(0, 0, 0)}, 1},
+		{"nobody's Data with Txn, a Ver and a Seq opens none", []api.Entry{data(0, 0, 0), inTxn(0, top, top), commit(1, 0)}, 3},
+		{"nobody's behind a Commit of nobody", []api.Entry{inTxn(0, 0, 0), commit(0, 0), inTxn(0, 0, 0)}, 3},
+		{"nobody's ahead of a producer's", []api.Entry{inTxn(0, 0, 0), inTxn(1, 0, 0), inTxn(0, 0, 0)}, 1},
+		{"nobody's Commit does not end a producer's", []api.Entry{inTxn(1, 0, 0), commit(0, 0), abort(0, 0)}, 0},
 	} {
 		if got, refused := Stable(r.es, len(r.es)); got != r.want || refused != api.OK {
 			t.Errorf("%s: Stable(%v) = %d, %v, want %d", r.name, r.es, got, refused, r.want)
@@ -292,6 +295,10 @@ func TestRead(t *testing.T) {
 		{"empty Texts are Texts", []api.Entry{data(0, 0, 0), data(1, 0, 0)}, 2, 0, 20, []string{"", ""}, 2},
 		{"a Commit with another Ver", named(inTxn(1, 0, 0), commit(1, 3)), 2, 0, 20, []string{"0"}, 2},
 		{"of two in a row the next one", named(inTxn(1, 0, 0), commit(1, 0), abort(1, 0)), 3, 0, 20, []string{"0"}, 3},
+		{"nobody's with Txn is looked at, and not read", named(inTxn(0, 0, 0)), 1, 0, 1, nil, 1},
+		{"nobody's with Txn holds nothing up", named(inTxn(0, 0, 0), data(0, 0, 0), data(1, 0, 0)), 3, 0, 20, []string{"1", "2"}, 3},
+		{"a producer's Commit is not nobody's", named(inTxn(0, 0, 0), inTxn(1, 0, 0), commit(1, 0)), 3, 0, 20, []string{"1"}, 3},
+		{"nobody's Commit is no producer's", named(inTxn(0, 0, 0), inTxn(1, 0, 0), commit(0, 0), abort(1, 0)), 4, 0, 20, nil, 4},
 		{"of two in a row the next one, an Abort", named(inTxn(1, 0, 0), abort(1, 0), commit(1, 0)), 3, 0, 20, nil, 3},
 	})
 }
@@ -378,8 +385,11 @@ func lastMarkerBy(es []api.Entry, pid int) int {
 	return last
 }
 
-// beginBy: P3.2, slowly: where a producer's open transaction begins, or -1.
+// beginBy: P3.2, slowly: where a producer's open transaction begins, or -1; nobody has none.
 func beginBy(es []api.Entry, pid int) int {
+	if pid == 0 {
+		return -1
+	}
 	for i := lastMarkerBy(es, pid) + 1; i < len(es); i++ {
 		if es[i].Pid == pid && es[i].Kind == api.Data && es[i].Txn {
 			return i
@@ -438,7 +448,8 @@ func readBy(es []api.Entry, from, most int) ([]string, int) {
 	for ; from < end && len(texts) < most; from++ {
 		e := es[from]
 		next := slices.IndexFunc(es[from:], func(o api.Entry) bool { return o.Pid == e.Pid && o.Kind != api.Data })
-		if e.Kind == api.Data && (!e.Txn || next >= 0 && es[from+next].Kind == api.Commit) {
+		committed := e.Pid != 0 && next >= 0 && es[from+next].Kind == api.Commit
+		if e.Kind == api.Data && (!e.Txn || committed) {
 			texts = append(texts, e.Text)
 		}
 	}
@@ -447,7 +458,7 @@ func readBy(es []api.Entry, from, most int) ([]string, int) {
 
 // letters: entries from which all short lists are made.
 func letters() []api.Entry {
-	l := []api.Entry{data(0, 0, 0), data(2, 0, 0), inTxn(2, 0, 0), commit(2, 0)}
+	l := []api.Entry{data(0, 0, 0), inTxn(0, 0, 0), commit(0, 0), data(2, 0, 0), inTxn(2, 0, 0), commit(2, 0)}
 	for ver := range 2 {
 		l = append(l, data(1, ver, 0), data(1, ver, 1), inTxn(1, ver, 0), inTxn(1, ver, 1), commit(1, ver), abort(1, ver))
 	}
